@@ -1,0 +1,1 @@
+"""Doorlots: houses of coloured doors that are several houses at once."""

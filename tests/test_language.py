@@ -1,0 +1,127 @@
+"""The rules of the language subset that can be read off the files of the package."""
+
+import ast
+import builtins
+import pathlib
+import re
+import unittest
+
+PACKAGE = pathlib.Path(__file__).resolve().parent.parent / "doorlots"
+FILES = sorted(PACKAGE.rglob("*.py"))
+TREES = {file: ast.parse(file.read_text("ascii")) for file in FILES}
+BUILTINS = set(
+    "len range enumerate zip min max sum abs sorted reversed int str bool bytes list tuple dict set frozenset isinstance "
+    "ord repr any all divmod iter next super property staticmethod classmethod Exception ValueError TypeError KeyError "
+    "IndexError LookupError ZeroDivisionError ArithmeticError OverflowError RuntimeError NotImplementedError "
+    "AttributeError StopIteration NotImplemented".split())
+BARRED_WORDS = re.compile(
+    r"\b(type|typing|typing_extensions|enum|Enum|IntEnum|StrEnum|Flag|IntFlag|Generic|Protocol|ABC|ABCMeta|namedtuple"
+    r"|NamedTuple|TypedDict|TYPE_CHECKING|abstractmethod)\b|dataclass|overload|contextmanager")
+BARRED_NAMES = {"register", "mro", "elements", "open", "input", "law", "version_info", "with_traceback", "add_note"}
+METHODS = {"__init__", "__eq__", "__repr__", "__str__", "__len__", "__enter__", "__exit__", "__call__", "__iter__"}
+BARRED_NODES = (
+    ast.Global, ast.AsyncFunctionDef, ast.AsyncFor, ast.AsyncWith, ast.Await, ast.Div, ast.MatMult, ast.Import)
+
+
+def nodes(kind):
+    for file, tree in TREES.items():
+        for node in ast.walk(tree):
+            if isinstance(node, kind):
+                yield f"{file.name}:{getattr(node, 'lineno', 0)}", node
+
+
+def bound_names(node):
+    """The names that a node gives a meaning."""
+    if isinstance(node, (ast.FunctionDef, ast.ClassDef)):
+        return [node.name]
+    if isinstance(node, ast.arg):
+        return [node.arg]
+    if isinstance(node, ast.alias):
+        return [node.asname or node.name]
+    if isinstance(node, ast.Name) and not isinstance(node.ctx, ast.Load):
+        return [node.id]
+    if isinstance(node, ast.Attribute) and not isinstance(node.ctx, ast.Load):
+        return [node.attr]
+    return []
+
+
+class Files(unittest.TestCase):
+    def test_only_plain_files(self):
+        found = [file for file in PACKAGE.rglob("*") if file.is_file() and "__pycache__" not in file.parts]
+        self.assertEqual(sorted(found), FILES)
+        for file in FILES:
+            self.assertRegex(file.name, r"^([a-z][a-z0-9_]*|__init__|__main__)\.py$")
+        self.assertTrue((PACKAGE / "__init__.py").is_file())
+
+    def test_sizes_and_characters(self):
+        for file in FILES:
+            lines = file.read_text("ascii").split("\n")
+            self.assertLessEqual(len(lines), 400, file.name)
+            for number, row in enumerate(lines, start=1):
+                self.assertLessEqual(len(row), 120, f"{file.name}:{number}")
+                self.assertRegex(row, r"^[ -~]*$", f"{file.name}:{number}")
+                self.assertIsNone(BARRED_WORDS.search(row), f"{file.name}:{number}")
+
+    def test_function_sizes(self):
+        for place, node in nodes(ast.FunctionDef):
+            self.assertLessEqual(node.end_lineno - node.lineno + 1, 40, place)
+
+
+class Shape(unittest.TestCase):
+    def test_module_level(self):
+        for file, tree in TREES.items():
+            for node in tree.body:
+                docstring = isinstance(node, ast.Expr) and node is tree.body[0]
+                allowed = isinstance(node, (ast.ImportFrom, ast.FunctionDef, ast.ClassDef, ast.Assign))
+                self.assertTrue(docstring or allowed, f"{file.name}:{node.lineno}")
+
+    def test_imports(self):
+        for place, node in nodes(ast.ImportFrom):
+            self.assertEqual((node.level, node.module.split(".")[0]), (0, "doorlots"), place)
+            source = TREES[PACKAGE.parent / (node.module.replace(".", "/") + ".py")]
+            defined = [name for top in source.body for part in ast.walk(top) for name in bound_names(part)
+                       if not isinstance(top, ast.ImportFrom)]
+            for alias in node.names:
+                self.assertIn(alias.name, defined, place)
+
+    def test_no_barred_parts(self):
+        for place, node in nodes(BARRED_NODES):
+            self.fail(f"{place}: {node}")
+        for place, node in nodes(ast.Compare):
+            for sign, right in zip(node.ops, node.comparators):
+                if isinstance(sign, (ast.Is, ast.IsNot)):
+                    self.assertIn(getattr(right, "value", 0), (None, True, False), place)
+        for place, node in nodes(ast.Constant):
+            self.assertNotIsInstance(node.value, (float, complex), place)
+            self.assertNotIn("%", str(node.value), place)
+
+    def test_no_generator_expression_beside_equality(self):
+        for place, node in nodes(ast.Call):
+            if getattr(node.func, "id", "") in ("any", "all", "min", "max", "sum", "sorted"):
+                self.assertNotIn(ast.GeneratorExp, [type(given) for given in node.args], place)
+
+    def test_double_underscore_methods(self):
+        for place, node in nodes(ast.FunctionDef):
+            if node.name.startswith("__"):
+                self.assertIn(node.name, METHODS, place)
+
+
+class Names(unittest.TestCase):
+    def test_bound_names(self):
+        for place, node in nodes(ast.AST):
+            for name in bound_names(node):
+                self.assertRegex(name, r"^([A-Za-z][A-Za-z0-9_]*|__[a-z]+__)$", place)
+                self.assertNotIn(name, BARRED_NAMES, place)
+                if not isinstance(node, ast.Attribute):
+                    self.assertNotIn(name, vars(builtins), place)
+
+    def test_builtins(self):
+        for place, node in nodes(ast.Name):
+            if isinstance(node.ctx, ast.Load) and node.id in vars(builtins):
+                self.assertIn(node.id, BUILTINS, place)
+
+    def test_no_name_is_both_a_method_and_an_attribute(self):
+        methods = {part.name for place, node in nodes(ast.ClassDef) for part in node.body
+                   if isinstance(part, ast.FunctionDef)}
+        attributes = {node.attr for place, node in nodes(ast.Attribute) if isinstance(node.ctx, ast.Store)}
+        self.assertEqual(methods & attributes, set())
