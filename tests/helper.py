@@ -3,6 +3,7 @@
 import copy
 import inspect
 import itertools
+import random
 import unittest
 
 from doorlots import errors
@@ -28,6 +29,10 @@ class Odd:
         raise AssertionError("written out")
 
 
+WRONG_HOUSES = (
+    None, True, 0, 1, "", "house 1", (), (1, ()), (4, SQUARE_DOORS), [4, SQUARE_DOORS], {}, {"halls": 1, "doors": ()},
+    House, Odd(),
+)
 NOT_INTEGERS = (None, True, False, "0", "a", "", b"0", (), (0,), [], [0], {}, Odd())
 NOT_COLOURS = (
     None, True, False, 0, 7, -1, b"a", (), ("a",), [], ["a"], {}, {"a": 1}, Odd(),
@@ -53,6 +58,50 @@ def line(halls):
     return House(halls, tuple((hall, hall + 1, "ab"[hall % 2]) for hall in range(halls - 1)))
 
 
+def four():
+    """Four halls of which every two are joined, with three colours."""
+    return House(4, ((0, 1, "a"), (0, 2, "b"), (0, 3, "c"), (1, 2, "c"), (1, 3, "b"), (2, 3, "a")))
+
+
+def cube(bits):
+    """A hall for each number of so many bits; each bit has a colour that changes it, the highest one a."""
+    doors = []
+    for hall in range(1 << bits):
+        for at, colour in enumerate(SIXTEEN[:bits]):
+            other = hall ^ 1 << (bits - 1 - at)
+            if hall < other:
+                doors.append((hall, other, colour))
+    return House(1 << bits, tuple(sorted(doors)))
+
+
+def random_house(seed, halls, colours, many):
+    """A house with a tree of doors and then more of them, at most so many, the same for the same arguments."""
+    source = random.Random(seed)
+    doors, ends = [], set()
+
+    def put(low, high, colour):
+        free = (low, colour) not in ends and (high, colour) not in ends
+        if free:
+            doors.append((low, high, colour))
+            ends.update([(low, colour), (high, colour)])
+        return free
+
+    for high in range(1, halls):
+        while not put(source.randrange(high), high, source.choice(colours)):
+            pass
+    for step in range(many):
+        low, high = sorted(source.sample(range(halls), 2))
+        put(low, high, source.choice(colours))
+    house = House(halls, tuple(sorted(doors)))
+    return house.renumbered(tuple(source.sample(range(halls), halls)))
+
+
+def random_houses(many):
+    """Houses of two to nine halls in up to five colours."""
+    for seed in range(many):
+        yield random_house(seed, 2 + seed % 8, SIXTEEN[:2 + seed // 8 % 4], seed % 11)
+
+
 def doors_between(halls, colours):
     """All doors that there could be, in ascending order."""
     pairs = itertools.combinations(range(halls), 2)
@@ -64,6 +113,31 @@ def door_choices(halls, colours):
     doors = doors_between(halls, colours)
     for many in range(len(doors) + 1):
         yield from itertools.combinations(doors, many)
+
+
+def small_houses():
+    """All houses of one and two halls, of four halls in the colours a and b, and of three halls in three colours."""
+    for halls, colours in ((1, ""), (2, "ab"), (4, "ab"), (3, "abc")):
+        for doors in door_choices(halls, colours):
+            try:
+                yield House(halls, doors)
+            except (errors.InvalidDoors, errors.Unreachable):
+                pass
+
+
+def pushed(house, hall, colour):
+    """Where a push leads, straight from the doors."""
+    for low, high, other in house.doors:
+        if other == colour and hall in (low, high):
+            return low + high - hall
+    return hall
+
+
+def led(house, hall, row):
+    """Where a row leads, straight from the doors."""
+    for colour in row:
+        hall = pushed(house, hall, colour)
+    return hall
 
 
 def kinds(value):
@@ -106,6 +180,34 @@ class Case(unittest.TestCase):
         names = list(inspect.signature(call).parameters)
         self.check_same(call(*args), expected)
         self.check_same(call(**dict(zip(names, args))), expected)
+
+    def check_wrong_houses(self, call, *rest):
+        """The call raises InvalidHouse for what is not a House, whatever the arguments after it are."""
+        for at, house in enumerate(WRONG_HOUSES):
+            with self.subTest(at=at):
+                self.check_raises(errors.InvalidHouse, "house", house, call, house, *rest)
+                self.check_raises(errors.InvalidHouse, "house", house, call, house, *[Odd() for value in rest])
+
+    def check_wrong_halls(self, call, house, *rest, at=1):
+        """The call raises InvalidHall for what is not a hall of the house, in this place of its arguments."""
+        for number, hall in enumerate((-1, house.halls, house.halls + 1, 10 ** 39, *NOT_INTEGERS)):
+            with self.subTest(number=number):
+                args = [house, *rest]
+                args.insert(at, hall)
+                self.check_raises(errors.InvalidHall, "hall", hall, call, *args)
+
+    def check_order(self, call, *rows):
+        """Of several wrong arguments the first one is reported.
+
+        A row has a right argument, a wrong one, and the error, field and value for the wrong one.
+        """
+        for choice in itertools.product((0, 1), repeat=len(rows)):
+            args = [row[wrong] for row, wrong in zip(rows, choice)]
+            if 1 in choice:
+                kind, field, value = rows[choice.index(1)][2:]
+                self.check_raises(kind, field, value, call, *args)
+            else:
+                call(*args)
 
     def check_house(self, house, halls, doors):
         self.assertIs(type(house), House)

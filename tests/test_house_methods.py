@@ -4,13 +4,13 @@ import copy
 import itertools
 
 from doorlots.errors import (
-    ColourTaken, DoorTaken, InvalidColour, InvalidDoor, InvalidDoors, InvalidHall, InvalidOrder, NoDoor, TooManyColours,
-    UnknownColour, Unreachable,
+    ColourTaken, DoorTaken, InvalidColour, InvalidDoor, InvalidHall, InvalidOrder, NoDoor, TooManyColours, UnknownColour,
+    Unreachable,
 )
 from doorlots.houses import House
 from tests.helper import (
-    NOT_COLOURS, NOT_INTEGERS, PATH_DOORS, SIXTEEN, SQUARE_DOORS, Case, Odd, door_choices, doors_between, line, path,
-    sixteen, square, state,
+    NOT_COLOURS, NOT_INTEGERS, PATH_DOORS, SIXTEEN, SQUARE_DOORS, Case, Odd, doors_between, line, path, pushed, sixteen,
+    small_houses, square, state,
 )
 
 WRONG_DOORS = (
@@ -19,24 +19,6 @@ WRONG_DOORS = (
     (False, 1, "a"), (0, True, "a"), (False, True, "a"), (True, 3, "b"), ([0], 1, "a"), (0, [1], "a"),
     (0, 1, ["a"]), (0, 1, ("a",)), (Odd(), 1, "a"), (0, 1, Odd()), (0, 10 ** 39, "a"),
 )
-
-
-def small_houses():
-    """All houses of four halls in the colours a and b, and of three halls in three colours."""
-    for halls, colours in ((1, ""), (2, "ab"), (4, "ab"), (3, "abc")):
-        for doors in door_choices(halls, colours):
-            try:
-                yield House(halls, doors)
-            except (InvalidDoors, Unreachable):
-                pass
-
-
-def pushed(house, hall, colour):
-    """Where a push leads, straight from the doors."""
-    for low, high, other in house.doors:
-        if other == colour and hall in (low, high):
-            return low + high - hall
-    return hall
 
 
 class Colours(Case):

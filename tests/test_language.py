@@ -19,6 +19,10 @@ BARRED_WORDS = re.compile(
     r"|NamedTuple|TypedDict|TYPE_CHECKING|abstractmethod)\b|dataclass|overload|contextmanager")
 BARRED_NAMES = {"register", "mro", "elements", "open", "input", "law", "version_info", "with_traceback", "add_note"}
 METHODS = {"__init__", "__eq__", "__repr__", "__str__", "__len__", "__enter__", "__exit__", "__call__", "__iter__"}
+BUILTIN_METHODS = set(
+    "append clear copy count endswith extend find get index insert isalnum isalpha isdigit islower isspace isupper items "
+    "join keys ljust lower lstrip partition pop remove replace reverse rfind rjust rpartition rsplit rstrip setdefault "
+    "split splitlines startswith strip update upper values zfill bit_length".split())
 BARRED_NODES = (
     ast.Global, ast.AsyncFunctionDef, ast.AsyncFor, ast.AsyncWith, ast.Await, ast.Div, ast.MatMult, ast.Import)
 
@@ -84,6 +88,30 @@ class Shape(unittest.TestCase):
             for alias in node.names:
                 self.assertIn(alias.name, defined, place)
 
+    def test_no_two_files_import_from_each_other(self):
+        sources = {file.stem: [node.module.split(".")[1] for node in tree.body if isinstance(node, ast.ImportFrom)]
+                   for file, tree in TREES.items()}
+        left = dict(sources)
+        while left:
+            ready = [name for name in left if not any(source in left for source in left[name])]
+            self.assertTrue(ready, f"in a ring: {sorted(left)}")
+            for name in ready:
+                del left[name]
+
+    def test_methods(self):
+        own = {node.name for place, node in nodes(ast.FunctionDef)}
+        for place, node in nodes(ast.Call):
+            if isinstance(node.func, ast.Attribute):
+                self.assertIn(node.func.attr, BUILTIN_METHODS | own, place)
+
+    def test_what_a_loop_goes_over_is_not_modified(self):
+        for place, node in nodes(ast.For):
+            over = ast.unparse(node.iter)
+            for part in (inner for row in node.body for inner in ast.walk(row)):
+                if isinstance(part, ast.Call) and isinstance(part.func, ast.Attribute):
+                    changed = part.func.attr in ("append", "extend", "insert", "pop", "remove", "clear", "update")
+                    self.assertFalse(changed and ast.unparse(part.func.value) == over, place)
+
     def test_no_barred_parts(self):
         for place, node in nodes(BARRED_NODES):
             self.fail(f"{place}: {node}")
@@ -114,6 +142,15 @@ class Names(unittest.TestCase):
                 self.assertNotIn(name, BARRED_NAMES, place)
                 if not isinstance(node, ast.Attribute):
                     self.assertNotIn(name, vars(builtins), place)
+
+    def test_no_parameter_or_variable_is_called_like_a_class_or_an_import(self):
+        for file, tree in TREES.items():
+            taken = {alias.asname or alias.name for node in tree.body if isinstance(node, ast.ImportFrom)
+                     for alias in node.names}
+            taken |= {node.name for node in tree.body if isinstance(node, ast.ClassDef)}
+            for node in ast.walk(tree):
+                if isinstance(node, (ast.arg, ast.Name)):
+                    self.assertEqual(taken & set(bound_names(node)), set(), f"{file.name}:{node.lineno}")
 
     def test_builtins(self):
         for place, node in nodes(ast.Name):
