@@ -1,6 +1,6 @@
 """The errors of the program, each under one of three base classes.
 
-A message shows only numbers and colours that the program itself has found. An argument may be of any kind,
+A message shows only small numbers and colours that the program itself has found. An argument may be of any kind,
 and to write it out could fail; it is in the field.
 """
 
@@ -180,7 +180,8 @@ class NothingToUndo(StateError):
 
 class TooManyHalls(LimitExceeded):
     def __init__(self, many):
-        LimitExceeded.__init__(self, f"{many} halls are too many")
+        # A cross can have so many halls that Python refuses to write their number.
+        LimitExceeded.__init__(self, "too many halls")
         self.many = many
 
 

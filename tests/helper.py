@@ -125,6 +125,65 @@ def small_houses():
                 pass
 
 
+def matchings(halls):
+    """All tuples of pairs of these halls in which no hall is in two pairs."""
+    if not halls:
+        yield ()
+        return
+    first, *rest = halls
+    yield from matchings(rest)
+    for other in rest:
+        for more in matchings([hall for hall in rest if hall != other]):
+            yield ((first, other), *more)
+
+
+def all_houses(halls, colours):
+    """All houses of so many halls whose doors have some of these colours."""
+    for choice in itertools.product(list(matchings(list(range(halls)))), repeat=len(colours)):
+        doors = [(*pair, colour) for pairs, colour in zip(choice, colours) for pair in pairs]
+        try:
+            yield House(halls, tuple(sorted(doors)))
+        except errors.Unreachable:
+            pass
+
+
+def crossed(houses):
+    """The halls and doors of a cross, by the words of point 8."""
+    halls = list(itertools.product(*[range(house.halls) for house in houses]))
+    doors = []
+    for (low, one), (high, other) in itertools.combinations(enumerate(halls), 2):
+        places = [at for at in range(len(houses)) if one[at] != other[at]]
+        if len(places) == 1:
+            ends = sorted((one[places[0]], other[places[0]]))
+            doors += [(low, high, door[2]) for door in houses[places[0]].doors if list(door[:2]) == ends]
+    return len(halls), tuple(sorted(doors))
+
+
+def shuffled(house, seed):
+    return house.renumbered(tuple(random.Random(seed).sample(range(house.halls), house.halls)))
+
+
+def random_crosses(many):
+    """Houses of four to 48 halls that are crosses of two or three houses, with their halls in another order."""
+    for seed in range(many):
+        houses = [random_house(seed, 2 + seed % 3, "be", seed % 4), random_house(seed + 1, 2 + seed // 3 % 3, "ad", 1)]
+        if seed % 2 == 0:
+            houses.append(random_house(seed + 2, 2 + seed % 4 // 2, "cf", seed % 3))
+        yield shuffled(House(*crossed(houses)), seed)
+
+
+def groupings(colours):
+    """All groupings of some colours."""
+    if not colours:
+        yield ()
+        return
+    first, *rest = sorted(colours)
+    for smaller in groupings(rest):
+        yield tuple(sorted([(first,), *smaller]))
+        for lot in smaller:
+            yield tuple(sorted([(first, *lot), *[other for other in smaller if other != lot]]))
+
+
 def pushed(house, hall, colour):
     """Where a push leads, straight from the doors."""
     for low, high, other in house.doors:

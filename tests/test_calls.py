@@ -20,6 +20,16 @@ INTERFACE = {
     "linking": {
         "corner_link": "(house, one, other)", "stretch_link": "(house, one, other)", "links": "(house)",
     },
+    "lots": {"lots": "(house)", "are_bound": "(house, one, other)", "chain": "(house, one, other)"},
+    "splits": {
+        "part": "(house, colours)", "unsplittable_parts": "(house)", "is_split": "(house, grouping)",
+        "split_count": "(house)", "addresses": "(house, grouping)", "hall_at": "(house, grouping, address)",
+        "cross": "(houses)",
+    },
+    "rows": {
+        "projection": "(row, colours)", "least_row": "(house, row)", "exchange_count": "(house, row)",
+        "are_exchangeable": "(house, row, other_row)",
+    },
 }
 # For each parameter a right argument for most houses, and arguments that are wrong for most of them.
 ARGUMENTS = {
@@ -27,10 +37,18 @@ ARGUMENTS = {
     "hall": (0, 1, [0]),
     "start": (0, 1, [0]),
     "goal": (1, 0, (0,)),
-    "row": (("a", "b", "z"), (), ["a", "b"], ("a", ["b"]), ("b", "a", "A")),
+    "row": (("b", "a", "b"), (), ("a", "z"), ["a", "b"], ("a", ["b"]), ("b", "a", "A")),
+    "other_row": (("a", "b", "b"), (), ("a", "z"), ["a", "b"], ("a", ["b"])),
     "times": (10 ** 30, 0, [1]),
     "one": ("a", "z", ["a"]),
     "other": ("b", "a", ["b"]),
+    "colours": (("a", "b"), ("b",), (), ["a"], ("b", "a"), ("a", ["b"])),
+    "grouping": ((("a",), ("b",)), (("a", "b"),), (("a",),), (), [("a",), ("b",)], (("a",), ["b"])),
+    "address": ((0, 1), (1, 0), (1,), [0, 1], (0, [1])),
+    "houses": (
+        (path(), House(2, ((0, 1, "c"),))), (), (square(), path()), [path()], (path(), [path()]),
+        (line(64), House(2, ((0, 1, "c"),))), (sixteen(), House(2, ((0, 1, "q"),))),
+    ),
 }
 
 
@@ -53,8 +71,8 @@ def told(value):
     """The value with houses written out."""
     if isinstance(value, House):
         return state(value)
-    if isinstance(value, tuple):
-        return tuple(told(item) for item in value)
+    if isinstance(value, (tuple, list)):
+        return type(value)(told(item) for item in value)
     return value
 
 

@@ -68,6 +68,10 @@ class ErrorFields(Case):
                     self.assertIs(getattr(error, field), value)
                     self.assertEqual(list(vars(error)), [field])
 
+    def test_a_number_of_halls_that_python_does_not_write(self):
+        many = 2 ** 20000
+        self.check_error(errors.TooManyHalls(many), errors.LimitExceeded, "many", many)
+
     def test_each_error_needs_its_field(self):
         for base, name, field in ROWS:
             with self.subTest(name), self.assertRaises(TypeError):
