@@ -8,10 +8,11 @@ from doorlots.linking import links
 def linked_colours(house):
     """A dict from each colour of the house to the ascending list of the colours that have a link with it."""
     linked = {colour: [] for colour in house.colours()}
+    # The pairs are ascending: a colour is first in the second place, with lesser ones, then in the first place.
     for one, other in links(house):
         linked[one].append(other)
         linked[other].append(one)
-    return {colour: sorted(linked[colour]) for colour in linked}
+    return linked
 
 
 def lots(house):

@@ -29,7 +29,6 @@ def parts_by(house, grouping):
 
 def unsplittable_parts(house):
     """The tuple of the parts, as Houses, by the lots of the finest split."""
-    check_house(house)
     return parts_by(house, lots(house))
 
 
@@ -55,11 +54,12 @@ def led_addresses(house, parts, places):
 def table_of(house, grouping):
     """The table of addresses of the grouping, or None if it is not a split."""
     parts = parts_by(house, grouping)
+    if hall_count(parts) != house.halls:
+        return None
     places = {colour: place for place, lot in enumerate(grouping) for colour in lot}
     # If there is a table, it is this one: a door moves one component, as in the part. So it is enough to check it.
+    # If it passes, every tuple is an address, since pushes lead to all tuples; and there are no more halls than tuples.
     table = led_addresses(house, parts, places)
-    if len(set(list(table.values()))) < house.halls or house.halls != hall_count(parts):
-        return None
     for hall in table:
         for colour in places:
             goal = house.ways[hall].get(colour, hall)
@@ -77,7 +77,6 @@ def is_split(house, grouping):
 
 def split_count(house):
     """The number of groupings of the house that are splits."""
-    check_house(house)
     # The splits are the ways to put the lots of the finest split together. The row begins with the number of ways for
     # as many lots as there were steps (Bell's triangle).
     row = [1]
