@@ -1,8 +1,8 @@
 """The arguments that occur in many functions, and the errors that they raise."""
 
-from doorlots.bounds import MOST_ROW, MOST_TIMES
+from doorlots.bounds import MOST_LENGTH, MOST_ROW, MOST_TIMES
 from doorlots.errors import (
-    InvalidColours, InvalidGrouping, InvalidHall, InvalidHouse, InvalidRow, InvalidTimes, UnknownColour,
+    InvalidColours, InvalidGrouping, InvalidHall, InvalidHouse, InvalidLength, InvalidRow, InvalidTimes, UnknownColour,
 )
 from doorlots.houses import House, is_colour, is_hall, is_whole
 
@@ -55,6 +55,11 @@ def check_row_of(house, row):
 def check_times(times):
     if not is_whole(times) or times < 0 or times > MOST_TIMES:
         raise InvalidTimes(times)
+
+
+def check_length(length):
+    if not is_whole(length) or length < 0 or length > MOST_LENGTH:
+        raise InvalidLength(length)
 
 
 def is_in_order(values, position):

@@ -18,6 +18,33 @@ def pushes_by_lots(house, row):
     return [pushes_of(row, lot) for lot in lots(house)]
 
 
+def least_mix(rows):
+    """The least row that has the pushes of all these rows, of each row in its order.
+
+    No two of the rows have a colour in common.
+    """
+    waiting = [row for row in rows if row]
+    mixed = []
+    while waiting:
+        colour = min([row[0] for row in waiting])
+        mixed.append(colour)
+        following = [row[1:] if row[0] == colour else row for row in waiting]
+        waiting = [row for row in following if row]
+    return tuple(mixed)
+
+
+def mix_count(lengths):
+    """The number of ways to mix rows of these lengths, each of which keeps its order."""
+    count = 1
+    placed = 0
+    for length in lengths:
+        # The places of this row's pushes are chosen among those of the pushes so far and its own.
+        for number in range(1, length + 1):
+            placed += 1
+            count = count * placed // number
+    return count
+
+
 def projection(row, colours):
     """The row without the pushes of colours that are not among these."""
     check_row(row)
@@ -29,27 +56,14 @@ def least_row(house, row):
     """The least row that can be obtained from the row by exchanges."""
     check_house(house)
     check_row_of(house, row)
-    waiting = pushes_by_lots(house, row)
-    least = []
-    for push in row:
-        colour = min([pushes[0] for pushes in waiting if pushes])
-        least.append(colour)
-        waiting = [pushes[1:] if pushes[:1] == (colour,) else pushes for pushes in waiting]
-    return tuple(least)
+    return least_mix(pushes_by_lots(house, row))
 
 
 def exchange_count(house, row):
     """The number of rows that can be obtained from the row by exchanges."""
     check_house(house)
     check_row_of(house, row)
-    count = 1
-    placed = 0
-    for pushes in pushes_by_lots(house, row):
-        # The places of this lot's pushes are chosen among those of the pushes so far and its own.
-        for number in range(1, len(pushes) + 1):
-            placed += 1
-            count = count * placed // number
-    return count
+    return mix_count([len(pushes) for pushes in pushes_by_lots(house, row)])
 
 
 def are_exchangeable(house, row, other_row):

@@ -54,7 +54,7 @@ def led_addresses(house, parts, places):
 def table_of(house, grouping):
     """The table of addresses of the grouping, or None if it is not a split."""
     parts = parts_by(house, grouping)
-    if hall_count(parts) != house.halls:
+    if halls_of_cross(parts) != house.halls:
         return None
     places = {colour: place for place, lot in enumerate(grouping) for colour in lot}
     # If there is a table, it is this one: a door moves one component, as in the part. So it is enough to check it.
@@ -113,19 +113,21 @@ def hall_at(house, grouping, address):
     return table.index(address)
 
 
-def check_parts(houses):
-    """The check of a tuple of Houses of which no two have a colour in common."""
+def check_parts(houses, least_halls):
+    """The check of a tuple of Houses of at least so many halls, of which no two have a colour in common."""
     if not isinstance(houses, tuple):
         raise InvalidParts(None)
     taken = {}
     for position, house in enumerate(houses):
-        if not isinstance(house, House) or any([colour in taken for colour in house.colours()]):
+        if not isinstance(house, House) or house.halls < least_halls:
+            raise InvalidParts(position)
+        if any([colour in taken for colour in house.colours()]):
             raise InvalidParts(position)
         for colour in house.colours():
             taken[colour] = True
 
 
-def hall_count(houses):
+def halls_of_cross(houses):
     """The number of halls of the cross."""
     halls = 1
     for house in houses:
@@ -145,8 +147,8 @@ def crossed_doors(house, halls, step):
 
 def cross(houses):
     """The cross of a tuple of Houses as a House."""
-    check_parts(houses)
-    halls = hall_count(houses)
+    check_parts(houses, 1)
+    halls = halls_of_cross(houses)
     if halls > MOST_HALLS:
         raise TooManyHalls(halls)
     colours = sum([len(house.colours()) for house in houses])

@@ -33,6 +33,26 @@ def common_divisor(one, other):
     return one
 
 
+def common_multiple(one, other):
+    """The least number that both divide."""
+    return one // common_divisor(one, other) * other
+
+
+def hall_after(house, hall, row, times):
+    """The hall to which the row leads from this hall if it is done so many times."""
+    cycle = cycle_from(goals_of(house, row), hall)
+    return cycle[times % len(cycle)]
+
+
+def times_until_home(house, row):
+    """The least number from 1 on such that the row done so many times leads home from every hall."""
+    goals = goals_of(house, row)
+    times = 1
+    for hall in range(house.halls):
+        times = common_multiple(times, len(cycle_from(goals, hall)))
+    return times
+
+
 def walk(house, hall, row):
     """The tuple of the halls in which a walker stands who starts in this hall."""
     check_house(house)
@@ -54,17 +74,11 @@ def repeated(house, hall, row, times):
     check_hall(house, hall)
     check_row(row)
     check_times(times)
-    cycle = cycle_from(goals_of(house, row), hall)
-    return cycle[times % len(cycle)]
+    return hall_after(house, hall, row, times)
 
 
 def period(house, row):
     """The least number from 1 on such that the row done so many times leads home from every hall."""
     check_house(house)
     check_row(row)
-    goals = goals_of(house, row)
-    least = 1
-    for hall in range(house.halls):
-        many = len(cycle_from(goals, hall))
-        least = least // common_divisor(least, many) * many
-    return least
+    return times_until_home(house, row)

@@ -53,6 +53,19 @@ def sixteen():
     return House(2, tuple((0, 1, colour) for colour in SIXTEEN))
 
 
+def edge(colour):
+    return House(2, ((0, 1, colour),))
+
+
+def edges(colours):
+    return tuple(edge(colour) for colour in colours)
+
+
+def letters(many):
+    """So many colours of four letters."""
+    return ["".join(word) for word in itertools.islice(itertools.product("abcdefghijklmnopqrstuvwxyz", repeat=4), many)]
+
+
 def line(halls):
     """Halls in a row, joined by doors of the colours a and b in turn."""
     return House(halls, tuple((hall, hall + 1, "ab"[hall % 2]) for hall in range(halls - 1)))
@@ -234,11 +247,11 @@ class Case(unittest.TestCase):
             self.assertIs(type(caught.exception), kind)
             self.check_error(caught.exception, base, field, value)
 
-    def check_returns(self, expected, call, *args):
+    def check_returns(self, expected, call, *args, **named):
         """The call returns this value, given its arguments by position and by name."""
         names = list(inspect.signature(call).parameters)
-        self.check_same(call(*args), expected)
-        self.check_same(call(**dict(zip(names, args))), expected)
+        self.check_same(call(*args, **named), expected)
+        self.check_same(call(**dict(zip(names, args), **named)), expected)
 
     def check_wrong_houses(self, call, *rest):
         """The call raises InvalidHouse for what is not a House, whatever the arguments after it are."""

@@ -1,11 +1,16 @@
-"""What holds of every function that is asked about a house: where it stands, and that it changes nothing (point 2)."""
+"""What holds of every function of the interface: where it stands, and that it changes nothing (point 2)."""
 
+import ast
 import copy
 import importlib
 import inspect
+import pathlib
 
+from doorlots.castles import Castle
 from doorlots.houses import House
-from tests.helper import Case, cube, four, kinds, line, path, random_houses, sixteen, square, state
+from tests.helper import Case, cube, edge, four, kinds, line, path, random_houses, sixteen, square, state
+
+PACKAGE = pathlib.Path(__file__).resolve().parent.parent / "doorlots"
 
 INTERFACE = {
     "texts": {"read_house": "(text)"},
@@ -30,8 +35,32 @@ INTERFACE = {
         "projection": "(row, colours)", "least_row": "(house, row)", "exchange_count": "(house, row)",
         "are_exchangeable": "(house, row, other_row)",
     },
+    "alike": {
+        "alike_map": "(one, other, *, start=0, other_start=0)", "difference": "(one, other, *, start=0, other_start=0)",
+        "symmetries": "(house)", "renaming": "(one, other)",
+    },
+    "counts": {"rows_between": "(house, start, goal, length)"},
+    "changes": {"freeing_doors": "(house, one, other)"},
+    "castles": {"are_alike": "(one, other)", "castle_difference": "(one, other)"},
 }
-# For each parameter a right argument for most houses, and arguments that are wrong for most of them.
+CLASSES = {
+    "houses": {"House": {
+        "__init__": "(self, halls, doors=())", "colours": "(self)", "through": "(self, hall, colour)",
+        "doors_at": "(self, hall)", "opened": "(self, door)", "shut": "(self, door)", "recoloured": "(self, old, new)",
+        "renumbered": "(self, order)",
+    }},
+    "castles": {"Castle": {
+        "__init__": "(self, parts)", "hall_count": "(self)", "colours": "(self)", "origin": "(self)",
+        "moved": "(self, address, row)", "moved_times": "(self, address, row, times)", "period": "(self, row)",
+        "distance": "(self, start, goal)", "shortest_row": "(self, start, goal)", "shortest_count": "(self, start, goal)",
+        "spheres": "(self, start)", "rows_between": "(self, start, goal, length)", "refined": "(self)",
+        "written": "(self)",
+    }},
+}
+HOUSES = (square(), path(), square().renumbered((1, 0, 3, 2)), House(1), cube(3), line(64), [square()])
+CASTLES = (Castle(()), Castle((path(), edge("c"))), Castle((edge("c"), path())), Castle((line(64),)), [Castle(())])
+# For each parameter a right argument for most houses, and arguments that are wrong for most of them; where a function
+# has another parameter of that name, the name of the function stands before it.
 ARGUMENTS = {
     "text": ("house 3\n0 1 a\n1 2 b", "house 3\n0 1 a", ["house 1"]),
     "hall": (0, 1, [0]),
@@ -49,6 +78,10 @@ ARGUMENTS = {
         (path(), House(2, ((0, 1, "c"),))), (), (square(), path()), [path()], (path(), [path()]),
         (line(64), House(2, ((0, 1, "c"),))), (sixteen(), House(2, ((0, 1, "q"),))),
     ),
+    "length": (7, 0, 200, 201, [1]),
+    "other_start": (0, 1, [0]),
+    **{f"{call}.{name}": HOUSES for call in ("alike_map", "difference", "renaming") for name in ("one", "other")},
+    **{f"{call}.{name}": CASTLES for call in ("are_alike", "castle_difference") for name in ("one", "other")},
 }
 
 
@@ -68,25 +101,41 @@ def outcome(call, *args, **named):
 
 
 def told(value):
-    """The value with houses written out."""
+    """The value with houses and castles written out."""
     if isinstance(value, House):
         return state(value)
+    if isinstance(value, Castle):
+        return told(list(vars(value).items()))
     if isinstance(value, (tuple, list)):
         return type(value)(told(item) for item in value)
     return value
 
 
-def choices(names):
+def choices(call, names):
     """Arguments for these parameters: the right ones, then each of the others in the place of a right one."""
-    right = [ARGUMENTS[name][0] for name in names]
+    values = {name: ARGUMENTS.get(f"{call.__name__}.{name}") or ARGUMENTS[name] for name in names}
+    right = {name: values[name][0] for name in names}
     yield right
-    for at, name in enumerate(names):
-        for value in ARGUMENTS[name][1:]:
-            yield [*right[:at], value, *right[at + 1:]]
+    for name in names:
+        for value in values[name][1:]:
+            yield {**right, name: value}
+
+
+def by_position(call, named):
+    """What the call gives if all arguments that can be passed by position are passed so."""
+    kinds_of = {name: parameter.kind for name, parameter in inspect.signature(call).parameters.items()}
+    args = [named[name] for name, kind in kinds_of.items() if kind == inspect.Parameter.POSITIONAL_OR_KEYWORD]
+    rest = {name: named[name] for name, kind in kinds_of.items() if kind == inspect.Parameter.KEYWORD_ONLY}
+    return outcome(call, *args, **rest)
 
 
 def some_houses():
     return [House(1), path(), square(), four(), cube(3), sixteen(), line(64), *random_houses(8)]
+
+
+def some_castles():
+    return [Castle(()), Castle((path(), edge("c"))), Castle((square(), edge("c"), edge("x"))),
+            Castle((line(64), sixteen().recoloured("a", "q").recoloured("b", "r")))]
 
 
 class Interface(Case):
@@ -99,36 +148,92 @@ class Interface(Case):
                     self.assertEqual((call.__module__, call.__name__), ("doorlots." + module, name))
                     self.assertEqual(str(inspect.signature(call)), parameters)
 
+    def test_classes_and_methods(self):
+        """Each method is defined in the class itself, and each class in its file."""
+        for module, classes in CLASSES.items():
+            tree = ast.parse((PACKAGE / (module + ".py")).read_text("ascii"))
+            for name, methods in classes.items():
+                kind = getattr(importlib.import_module("doorlots." + module), name)
+                self.assertEqual((kind.__module__, kind.__name__), ("doorlots." + module, name))
+                self.assertIn(name, [node.name for node in tree.body if isinstance(node, ast.ClassDef)])
+                for method, parameters in methods.items():
+                    with self.subTest(f"{name}.{method}"):
+                        self.assertEqual(str(inspect.signature(vars(kind)[method])), parameters)
+
 
 class Calls(Case):
     def calls(self, houses):
         for call in functions():
             names = list(inspect.signature(call).parameters)
-            for house in houses:
-                for rest in choices([name for name in names if name != "house"]):
-                    yield call, names, [house, *rest] if "house" in names else rest
+            for house in houses if "house" in names else houses[:1]:
+                for rest in choices(call, [name for name in names if name != "house"]):
+                    yield call, {"house": house, **rest} if "house" in names else rest
 
     def test_by_position_and_by_name(self):
-        for call, names, args in self.calls(some_houses()):
-            first = outcome(call, *args)
-            self.assertEqual(outcome(call, **dict(zip(names, args))), first)
-            self.assertEqual(outcome(call, *args[:1], **dict(list(zip(names, args))[:0:-1])), first)
+        for call, named in self.calls(some_houses()):
+            first = outcome(call, **named)
+            self.assertEqual(by_position(call, named), first)
+            self.assertEqual(outcome(call, **dict(list(named.items())[::-1])), first)
 
     def test_nothing_changes(self):
         houses = some_houses()
         before = [state(house) for house in houses]
-        for call, names, args in self.calls(houses):
-            given = copy.deepcopy(told(tuple(args)))
-            outcome(call, *args)
-            self.assertEqual(told(tuple(args)), given)
+        for call, named in self.calls(houses):
+            given = copy.deepcopy(told(tuple(named.values())))
+            outcome(call, **named)
+            self.assertEqual(told(tuple(named.values())), given)
         self.assertEqual([state(house) for house in houses], before)
 
     def test_the_same_again(self):
         """Also for equal houses that are others, and after other houses were asked in between."""
-        first = [outcome(call, *args) for call, names, args in self.calls(some_houses())]
-        turned = [outcome(call, *args) for call, names, args in reversed(list(self.calls(some_houses())))]
+        first = [outcome(call, **named) for call, named in self.calls(some_houses())]
+        turned = [outcome(call, **named) for call, named in reversed(list(self.calls(some_houses())))]
         self.assertEqual(turned[::-1], first)
         houses = some_houses()
-        for call, names, args in self.calls(houses):
-            self.assertEqual(outcome(call, *args), outcome(call, *args))
-        self.assertEqual([outcome(call, *args) for call, names, args in self.calls(houses)], first)
+        for call, named in self.calls(houses):
+            self.assertEqual(outcome(call, **named), outcome(call, **named))
+        self.assertEqual([outcome(call, **named) for call, named in self.calls(houses)], first)
+
+
+class CastleCalls(Case):
+    """The same of the methods of a Castle."""
+
+    def calls(self, castles):
+        for castle in castles:
+            near, far = castle.origin(), tuple(house.halls - 1 for house in castle.parts)
+            values = {
+                "address": (near, far, [0], (0,) * 9), "start": (near, far, [0], (True,)), "goal": (far, near, [0], None),
+                "row": (("b", "a", "c", "zz"), (), ("a", "A"), ["a"]), "times": (10 ** 30, 0, [1]),
+                "length": (7, 0, 200, 201, [1]),
+            }
+            for method in CLASSES["castles"]["Castle"]:
+                if method != "__init__":
+                    call = getattr(castle, method)
+                    names = list(inspect.signature(call).parameters)
+                    right = {name: values[name][0] for name in names}
+                    yield call, right
+                    for name in names:
+                        for value in values[name][1:]:
+                            yield call, {**right, name: value}
+
+    def test_by_position_and_by_name(self):
+        for call, named in self.calls(some_castles()):
+            self.assertEqual(by_position(call, named), outcome(call, **named))
+
+    def test_nothing_changes(self):
+        castles = some_castles()
+        before = copy.deepcopy([told(castle) for castle in castles])
+        for call, named in self.calls(castles):
+            given = copy.deepcopy(list(named.values()))
+            outcome(call, **named)
+            self.assertEqual(list(named.values()), given)
+        self.assertEqual([told(castle) for castle in castles], before)
+
+    def test_the_same_again(self):
+        first = [outcome(call, **named) for call, named in self.calls(some_castles())]
+        turned = [outcome(call, **named) for call, named in reversed(list(self.calls(some_castles())))]
+        self.assertEqual(turned[::-1], first)
+        castles = some_castles()
+        for call, named in self.calls(castles):
+            self.assertEqual(outcome(call, **named), outcome(call, **named))
+        self.assertEqual([outcome(call, **named) for call, named in self.calls(castles)], first)

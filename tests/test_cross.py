@@ -7,22 +7,9 @@ from doorlots.houses import House
 from doorlots.lots import lots
 from doorlots.splits import addresses, cross, unsplittable_parts
 from tests.helper import (
-    SIXTEEN, SQUARE_DOORS, WRONG_HOUSES, Case, cube, crossed, four, line, path, random_crosses, random_house, sixteen,
-    square,
+    SIXTEEN, SQUARE_DOORS, WRONG_HOUSES, Case, cube, crossed, edge, edges, four, letters, line, path, random_crosses,
+    random_house, sixteen, square,
 )
-
-
-def edge(colour):
-    return House(2, ((0, 1, colour),))
-
-
-def edges(colours):
-    return tuple(edge(colour) for colour in colours)
-
-
-def letters(many):
-    """So many colours of four letters."""
-    return ["".join(word) for word in itertools.islice(itertools.product("abcdefghijklmnopqrstuvwxyz", repeat=4), many)]
 
 
 class Cross(Case):
