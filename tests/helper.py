@@ -7,7 +7,9 @@ import random
 import unittest
 
 from doorlots import errors
+from doorlots.castles import Castle
 from doorlots.houses import House
+from doorlots.keep import Keep
 
 SQUARE_DOORS = ((0, 1, "a"), (0, 2, "b"), (1, 3, "b"), (2, 3, "a"))
 PATH_DOORS = ((0, 1, "a"), (1, 2, "b"))
@@ -221,6 +223,17 @@ def kinds(value):
 
 def state(house):
     return copy.deepcopy((house.halls, house.doors, vars(house)))
+
+
+def told(value):
+    """The value with houses, castles and keeps written out."""
+    if isinstance(value, House):
+        return state(value)
+    if isinstance(value, (Castle, Keep)):
+        return told(list(vars(value).items()))
+    if isinstance(value, (tuple, list)):
+        return type(value)(told(item) for item in value)
+    return value
 
 
 class Case(unittest.TestCase):

@@ -8,7 +8,7 @@ import pathlib
 
 from doorlots.castles import Castle
 from doorlots.houses import House
-from tests.helper import Case, cube, edge, four, kinds, line, path, random_houses, sixteen, square, state
+from tests.helper import Case, cube, edge, four, kinds, line, path, random_houses, sixteen, square, state, told
 
 PACKAGE = pathlib.Path(__file__).resolve().parent.parent / "doorlots"
 
@@ -42,6 +42,13 @@ INTERFACE = {
     "counts": {"rows_between": "(house, start, goal, length)"},
     "changes": {"freeing_doors": "(house, one, other)"},
     "castles": {"are_alike": "(one, other)", "castle_difference": "(one, other)"},
+    "keep": {"replay": "(house, deeds)"},
+    "checker": {"holds": "(claim, certificate)"},
+    "certificates": {
+        "certify_split": "(house, grouping)", "certify_pair": "(house, one, other)", "certify_finest": "(house)",
+        "certify_alike": "(one, other)", "certify_distance": "(house, start, goal)",
+        "certify_repeat": "(house, start, row, times)",
+    },
 }
 CLASSES = {
     "houses": {"House": {
@@ -56,7 +63,14 @@ CLASSES = {
         "spheres": "(self, start)", "rows_between": "(self, start, goal, length)", "refined": "(self)",
         "written": "(self)",
     }},
+    "keep": {"Keep": {
+        "__init__": "(self, house)", "do": "(self, deed)", "do_all": "(self, deeds, *, watch=None)", "undo": "(self)",
+        "current_house": "(self)", "walker": "(self)", "current_lots": "(self)", "deed_log": "(self)",
+        "lot_changes": "(self)",
+    }},
+    "desk": {"Desk": {"__init__": "(self, house)", "say": "(self, command)"}},
 }
+SPLIT = ("split", 4, square().doors, (("a",), ("b",)))
 HOUSES = (square(), path(), square().renumbered((1, 0, 3, 2)), House(1), cube(3), line(64), [square()])
 CASTLES = (Castle(()), Castle((path(), edge("c"))), Castle((edge("c"), path())), Castle((line(64),)), [Castle(())])
 # For each parameter a right argument for most houses, and arguments that are wrong for most of them; where a function
@@ -80,7 +94,15 @@ ARGUMENTS = {
     ),
     "length": (7, 0, 200, 201, [1]),
     "other_start": (0, 1, [0]),
-    **{f"{call}.{name}": HOUSES for call in ("alike_map", "difference", "renaming") for name in ("one", "other")},
+    "deeds": (
+        (("push", "a"), ("push", "b")), (), (("push", "a"), ("open", 0, 2, "zz"), ("shut", 0, 2, "zz")), [("push", "a")],
+        (("push", "a"), ["push", "a"]), (("drop", ("a",)), ("cross", 2, ((0, 1, "y"),))), (("drop", ["a"]),),
+        (("cross", 2, [(0, 1, "y")]),), (("recolour", "a", "y"), ("push", ["a"])),
+    ),
+    "claim": (SPLIT, list(SPLIT), (*SPLIT[:3], [("a",), ("b",)]), ("finest", *SPLIT[1:])),
+    "certificate": (((0, 0), (1, 0), (0, 1), (1, 1)), [(0, 0), (1, 0), (0, 1), (1, 1)], ((0, 0), [1, 0], (0, 1), (1, 1))),
+    **{f"{call}.{name}": HOUSES for call in ("alike_map", "difference", "renaming", "certify_alike")
+       for name in ("one", "other")},
     **{f"{call}.{name}": CASTLES for call in ("are_alike", "castle_difference") for name in ("one", "other")},
 }
 
@@ -98,17 +120,6 @@ def outcome(call, *args, **named):
     except (ValueError, RuntimeError, ArithmeticError) as error:
         return type(error), copy.deepcopy(list(vars(error).items())), kinds(list(vars(error).values()))
     return copy.deepcopy(told(result)), kinds(result)
-
-
-def told(value):
-    """The value with houses and castles written out."""
-    if isinstance(value, House):
-        return state(value)
-    if isinstance(value, Castle):
-        return told(list(vars(value).items()))
-    if isinstance(value, (tuple, list)):
-        return type(value)(told(item) for item in value)
-    return value
 
 
 def choices(call, names):
