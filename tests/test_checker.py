@@ -13,7 +13,7 @@ from doorlots.errors import InvalidDoors, InvalidGrouping, InvalidHalls, NotASpl
 from doorlots.houses import House, is_colour
 from doorlots.linking import corner_link, stretch_link
 from doorlots.lots import are_bound, lots
-from doorlots.splits import addresses
+from doorlots.splits import addresses, part
 from doorlots.walks import effect
 from tests.helper import (
     NOT_COLOURS, NOT_INTEGERS, PATH_DOORS, SIXTEEN, SQUARE_DOORS, Case, Odd, all_houses, cube, edge, four, groupings,
@@ -379,6 +379,27 @@ class Splits(Case):
         self.check_returns(True, holds, ("split", *SQUARE, (("a", "b"),)), whole_house)
         self.check_returns(False, holds, ("split", *SQUARE, (("b", "a"),)), whole_house)
 
+    def test_the_order_of_the_lots(self):
+        """The table that the grouping would have if its lots could stand in this order."""
+        turned = tuple(address[::-1] for address in TABLE)
+        self.check_returns(False, holds, ("split", *SQUARE, APART[::-1]), turned)
+        self.check_returns(False, holds, ("finest", *SQUARE, APART[::-1]), (turned, ()))
+        self.check_returns(False, holds, ("free", *SQUARE, "a", "b"), (APART[::-1], turned))
+
+    def test_as_many_addresses_as_the_parts_have(self):
+        """Also where the house has more or fewer halls."""
+        larger = smaller = 0
+        for house in [path(), four(), line(5), *all_houses(4, "ab"), *random_houses(20)]:
+            for grouping in groupings(house.colours()):
+                halls = [range(part(house, lot)[0].halls) for lot in grouping]
+                places = tuple(itertools.product(*halls))
+                claim = ("split", house.halls, house.doors, grouping)
+                self.check_same(holds(claim, places), shown(claim, places))
+                larger += len(places) > house.halls
+                smaller += len(places) < house.halls
+        self.assertGreater(larger, 5)
+        self.assertGreater(smaller, 5)
+
     def test_wrong_tables(self):
         claim = ("split", *SQUARE, APART)
         for table in (((0, 0), (True, 0), (0, 1), (1, 1)), ((False, 0), *TABLE[1:]), ([0, 0], *TABLE[1:]), list(TABLE),
@@ -457,6 +478,16 @@ class Pairs(Case):
         self.check_returns(False, holds, claim, (("corner", "b", "b", 0),))
         self.check_returns(False, holds, claim, (("corner", "a", "a", 0),))
 
+    def test_two_doors_of_the_same_colour(self):
+        door, other = STRETCH[1:]
+        for same_colour in (("stretch", door, door), ("stretch", door, (2, 3, "a"))):
+            self.check_returns(False, holds, ("bound", *FOUR, "a", "b"), (same_colour, STRETCH))
+        self.check_returns(False, holds, ("bound", *FOUR, "a", "b"), (STRETCH, ("stretch", other, other)))
+        links = (STRETCH, ("stretch", (0, 1, "a"), (0, 3, "c")))
+        claim, table = ("finest", *FOUR, (("a", "b", "c"),)), ((0,), (1,), (2,), (3,))
+        self.check_returns(True, holds, claim, (table, links))
+        self.check_returns(False, holds, claim, (table, (*links, ("stretch", door, door))))
+
     def test_no_chain_of_links_leads_to_a_free_colour(self):
         for house in [square(), cube(3), *random_crosses(8)]:
             links = [("corner", one, other, hall) for one, other in itertools.permutations(house.colours(), 2)
@@ -518,7 +549,7 @@ class AlikeAndUnlike(Case):
         for one, other in itertools.product(houses, repeat=2):
             for hall in range(-1, other.halls + 1):
                 claim = ("alike", one.halls, one.doors, other.halls, other.doors, hall)
-                for places in itertools.product(range(other.halls), repeat=one.halls):
+                for places in itertools.product(range(max(one.halls, other.halls)), repeat=one.halls):
                     self.check_same(holds(claim, places), shown(claim, places))
 
     def test_wrong_maps(self):

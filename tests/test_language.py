@@ -49,6 +49,20 @@ def bound_names(node):
     return []
 
 
+def places(kind):
+    """The nodes of a kind with the node around each."""
+    for file, tree in TREES.items():
+        for around in ast.walk(tree):
+            for node in ast.iter_child_nodes(around):
+                if isinstance(node, kind):
+                    yield f"{file.name}:{getattr(node, 'lineno', 0)}", node, around
+
+
+def called(node):
+    """The name of the function or method that is called, or an empty string."""
+    return getattr(node.func, "id", getattr(node.func, "attr", "")) if isinstance(node, ast.Call) else ""
+
+
 class Files(unittest.TestCase):
     def test_only_plain_files(self):
         found = [file for file in PACKAGE.rglob("*") if file.is_file() and "__pycache__" not in file.parts]
@@ -132,6 +146,65 @@ class Shape(unittest.TestCase):
         for place, node in nodes(ast.FunctionDef):
             if node.name.startswith("__"):
                 self.assertIn(node.name, METHODS, place)
+
+
+class Places(unittest.TestCase):
+    def test_sets(self):
+        """They are made on the spot in `sorted` and `len`."""
+        for place, node, around in places((ast.Set, ast.SetComp, ast.Call)):
+            if called(node) == "set" or not isinstance(node, ast.Call):
+                joined = isinstance(around, ast.BinOp) and called(around.left) == called(around.right) == "set"
+                self.assertTrue(joined or called(around) in ("sorted", "len"), place)
+
+    def test_what_is_gone_through_on_the_spot(self):
+        for place, node, around in places(ast.Call):
+            method = isinstance(node.func, ast.Attribute) and called(node) in ("items", "keys", "values")
+            if method or called(node) in ("zip", "enumerate", "range", "reversed"):
+                loop = isinstance(around, (ast.For, ast.comprehension)) and around.iter is node
+                first = called(around) in ("list", "tuple", "dict", "sorted", "sum") and around.args[0] is node
+                self.assertTrue(loop or first, place)
+
+    def test_no_generators(self):
+        for place, node in nodes((ast.GeneratorExp, ast.Yield, ast.YieldFrom)):
+            self.fail(f"{place}: {node}")
+
+    def test_errors_that_are_caught_and_raised(self):
+        own = {node.name for node in TREES[PACKAGE / "errors.py"].body if isinstance(node, ast.ClassDef)}
+        for place, node in nodes(ast.ExceptHandler):
+            self.assertIn(getattr(node.type, "id", ""), own, place)
+        for place, node in nodes(ast.Raise):
+            self.assertIn(called(node.exc), own, place)
+
+    def test_what_a_finally_contains(self):
+        for place, node in nodes(ast.Try):
+            for row in node.finalbody:
+                for part in ast.walk(row):
+                    self.assertNotIsInstance(part, (
+                        ast.Call, ast.Return, ast.Break, ast.Continue, ast.Raise, ast.Subscript, ast.For, ast.While), place)
+
+    def test_tables_of_functions_are_read_only(self):
+        """What stands at module level is never changed, and a function of a table has a name where it is called."""
+        for file, tree in TREES.items():
+            tables = [row.targets[0].id for row in tree.body if isinstance(row, ast.Assign)]
+            for node in ast.walk(tree):
+                if isinstance(node, ast.Call):
+                    self.assertNotIsInstance(node.func, (ast.Subscript, ast.Call), f"{file.name}:{node.lineno}")
+                if isinstance(node, ast.Subscript) and not isinstance(node.ctx, ast.Load):
+                    self.assertNotIn(getattr(node.value, "id", ""), tables, f"{file.name}:{node.lineno}")
+
+    def test_calls_of_own_functions_take_what_is_passed(self):
+        for file, tree in TREES.items():
+            known = {}
+            for row in tree.body:
+                source = TREES[PACKAGE / (row.module.split(".")[1] + ".py")] if isinstance(row, ast.ImportFrom) else tree
+                names = [alias.name for alias in row.names] if isinstance(row, ast.ImportFrom) else [getattr(row, "name", "")]
+                known.update({node.name: node.args for node in source.body
+                              if isinstance(node, ast.FunctionDef) and node.name in names})
+            for node in ast.walk(tree):
+                if isinstance(node, ast.Call) and getattr(node.func, "id", "") in known:
+                    args = known[node.func.id]
+                    most = len(args.args)
+                    self.assertTrue(most - len(args.defaults) <= len(node.args) <= most, f"{file.name}:{node.lineno}")
 
 
 class Names(unittest.TestCase):
